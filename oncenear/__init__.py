@@ -1,0 +1,1 @@
+"""Oncenear: worths without end, told once to the nearest."""

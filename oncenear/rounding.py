@@ -1,0 +1,170 @@
+"""Forms of so many bits, and rounding of fractions to their numbers."""
+
+from oncenear.dots import ceiling_at, floor_at, need_number, negated, number_of, order_of, size_of
+from oncenear.errors import NoForm, NoNumber, NoWord, TooGreat, TooMany
+from oncenear.wholes import is_whole, is_whole_within
+
+WAYS = ("near", "up", "down", "in", "out")
+MOST_NUMBERS = 1000
+
+
+class Form:
+    """All m times 2 ** e, m below 2 ** bits in size, e from least on, below 2 ** most in size."""
+
+    def __init__(self, bits, *, least, most):
+        if not is_whole_within(bits, 1, 200) or not is_whole_within(least, -400, 300):
+            raise NoForm("bits from 1 to 200 and least from -400 to 300 are needed")
+        if not is_whole_within(most, least + 1, 400):
+            raise NoForm("most from least + 1 to 400 is needed")
+        self.bits = bits
+        self.least = least
+        self.most = most
+
+    def __eq__(self, other):
+        return (isinstance(other, Form) and self.bits == other.bits
+                and self.least == other.least and self.most == other.most)
+
+    def __repr__(self):
+        return f"Form({self.bits}, least={self.least}, most={self.most})"
+
+    def has(self, number):
+        """Whether the number is one of the form."""
+        need_number(number)
+        m, e = number
+        if m == 0:
+            return True
+        return m.bit_length() <= self.bits and e >= self.least and size_of(number) < self.most
+
+    def count(self):
+        """How many numbers the form has."""
+        places = min(self.bits, self.most - self.least)
+        doublings = self.most - self.least - places
+        above_nought = (1 << places) - 1 + (doublings << (self.bits - 1))
+        return 2 * above_nought + 1
+
+    def top(self):
+        """The greatest number of the form."""
+        places = min(self.bits, self.most - self.least)
+        return number_of((1 << places) - 1, self.most - places)
+
+    def numbers(self):
+        """The rising list of all numbers of the form."""
+        many = self.count()
+        if many > MOST_NUMBERS:
+            raise TooMany(many)
+        rising = []
+        number = self.above((0, 0))
+        while number is not None:
+            rising.append(number)
+            number = self.above(number)
+        return [negated(found) for found in rising[::-1]] + [(0, 0)] + rising
+
+    def above(self, number):
+        """The least number of the form that is greater than the number, or None."""
+        need_number(number)
+        top = self.top()
+        if order_of(number, top) >= 0:
+            return None
+        if order_of(number, negated(top)) < 0:
+            return negated(top)
+        if number[0] < 0:
+            return negated(next_inward(self, negated(number)))
+        return next_outward(self, number)
+
+    def below(self, number):
+        """The greatest number of the form that is less than the number, or None."""
+        need_number(number)
+        mirrored = self.above(negated(number))
+        return None if mirrored is None else negated(mirrored)
+
+    def step(self, number):
+        """How far numbers of the form lie apart at the number's size, as if there were no greatest exponent."""
+        need_number(number)
+        return (1, step_power_of(self, number))
+
+
+def step_power(form, size):
+    """The exponent of the form's step for sizes from 2 ** size on, below 2 ** (size + 1)."""
+    return max(form.least, size + 1 - form.bits)
+
+
+def step_power_of(form, number):
+    """The exponent of the form's step at the number's size."""
+    return form.least if number[0] == 0 else step_power(form, size_of(number))
+
+
+def next_outward(form, number):
+    """The next greater number of the form, without a greatest exponent, of a number from 0 on."""
+    power = step_power_of(form, number)
+    return number_of(floor_at(number, power) + 1, power)
+
+
+def next_inward(form, number):
+    """The next less number of the form, without a greatest exponent, of a number above 0."""
+    size = size_of(number)
+    if number[0] == 1:
+        # Just below a power of two the step is that of the lesser size.
+        size -= 1
+    power = step_power(form, size)
+    return number_of(ceiling_at(number, power) - 1, power)
+
+
+def need_form(thing):
+    """Refuse with NoForm what is no form."""
+    if not isinstance(thing, Form):
+        raise NoForm("a form is needed")
+
+
+def need_way(thing):
+    """Refuse with NoWord what is no way of rounding."""
+    if thing not in WAYS:
+        raise NoWord(thing)
+
+
+def rounded(form, top, bottom=1, *, way="near"):
+    """The number of the form that top by bottom is rounded to, by the way."""
+    need_form(form)
+    need_way(way)
+    if not is_whole(top) or not is_whole(bottom) or bottom < 1:
+        raise NoNumber("a whole number by one above 0 is needed")
+    number = rounded_freely(form, top, bottom, way)
+    if number[0] != 0 and size_of(number) >= form.most:
+        raise TooGreat(number)
+    return number
+
+
+def rounded_freely(form, top, bottom, way):
+    """What rounded tells, as if the form had no greatest exponent."""
+    if top == 0:
+        return (0, 0)
+    power = step_power(form, fraction_size(top, bottom))
+    if power < 0:
+        top <<= -power
+    else:
+        bottom <<= power
+    whole, rest = divmod(top, bottom)
+    if goes_up(whole, rest, bottom, way):
+        whole += 1
+    return number_of(whole, power)
+
+
+def fraction_size(top, bottom):
+    """The k for which top by bottom is from 2 ** k on, below 2 ** (k + 1), in size; top isn't 0."""
+    size = top.bit_length() - bottom.bit_length()
+    # The lengths leave open whether it is this size or the next less one.
+    if (abs(top) << max(0, -size)) < (bottom << max(0, size)):
+        size -= 1
+    return size
+
+
+def goes_up(whole, rest, bottom, way):
+    """Whether whole and rest by bottom, counted in steps, is rounded to whole + 1 and not to whole."""
+    if rest == 0 or way == "down":
+        return False
+    if way == "up":
+        return True
+    if way == "in":
+        return whole < 0
+    if way == "out":
+        return whole >= 0
+    return 2 * rest > bottom or (2 * rest == bottom and whole & 1 == 1)
