@@ -1,10 +1,10 @@
 """Forms of so many bits, and rounding of fractions to their numbers."""
 
 from oncenear.dots import ceiling_at, floor_at, need_number, negated, number_of, order_of, size_of
-from oncenear.errors import NoForm, NoNumber, NoWord, TooGreat, TooMany
+from oncenear.errors import NoForm, NoNumber, TooGreat, TooMany
 from oncenear.wholes import is_whole, is_whole_within
+from oncenear.words import WAYS, need_word
 
-WAYS = ("near", "up", "down", "in", "out")
 MOST_NUMBERS = 1000
 
 
@@ -33,7 +33,7 @@ class Form:
         m, e = number
         if m == 0:
             return True
-        return m.bit_length() <= self.bits and e >= self.least and size_of(number) < self.most
+        return m.bit_length() <= self.bits and e >= self.least and is_below_most(self, number)
 
     def count(self):
         """How many numbers the form has."""
@@ -115,20 +115,23 @@ def need_form(thing):
         raise NoForm("a form is needed")
 
 
-def need_way(thing):
-    """Refuse with NoWord what is no way of rounding."""
-    if thing not in WAYS:
-        raise NoWord(thing)
-
-
 def rounded(form, top, bottom=1, *, way="near"):
     """The number of the form that top by bottom is rounded to, by the way."""
     need_form(form)
-    need_way(way)
+    need_word(way, WAYS)
     if not is_whole(top) or not is_whole(bottom) or bottom < 1:
         raise NoNumber("a whole number by one above 0 is needed")
-    number = rounded_freely(form, top, bottom, way)
-    if number[0] != 0 and size_of(number) >= form.most:
+    return need_below_most(form, rounded_freely(form, top, bottom, way))
+
+
+def is_below_most(form, number):
+    """Whether a number is below 2 ** most in size."""
+    return number[0] == 0 or size_of(number) < form.most
+
+
+def need_below_most(form, number):
+    """The rounded number itself; refused with TooGreat where it isn't below 2 ** most in size."""
+    if not is_below_most(form, number):
         raise TooGreat(number)
     return number
 
@@ -144,6 +147,19 @@ def rounded_freely(form, top, bottom, way):
         bottom <<= power
     whole, rest = divmod(top, bottom)
     if goes_up(whole, rest, bottom, way):
+        whole += 1
+    return number_of(whole, power)
+
+
+def rounded_twos(form, m, e, way):
+    """What m times 2 ** e is rounded to, as if the form had no greatest exponent."""
+    if m == 0:
+        return (0, 0)
+    power = step_power(form, m.bit_length() - 1 + e)
+    if power <= e:
+        return number_of(m, e)
+    whole = m >> (power - e)
+    if goes_up(whole, m - (whole << (power - e)), 1 << (power - e), way):
         whole += 1
     return number_of(whole, power)
 

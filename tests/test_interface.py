@@ -14,6 +14,15 @@ FUNCTIONS = {
     "rounding": {"rounded": "(form, top, bottom=1, *, way='near')"},
     "stretches": {"sum_of": "(one, other)", "product_of": "(one, other)", "quotient_of": "(one, other, *, bits)",
                   "root_of": "(one, *, bits)"},
+    "bounds": {"pi_bounds": "(bits, *, by='five')", "log_two_bounds": "(bits, *, by='three')"},
+    "worths": {"worth_bounds": "(word, number, *, bits, by='series')", "is_exact": "(word, number)",
+               "exact_worth": "(word, number)"},
+    "walks": {"series_sum": "(word, number, many)", "series_rest": "(word, number, many)",
+              "steps_of": "(word, number, many)"},
+    "telling": {"told": "(form, word, number, *, way='near', by='series')",
+                "shown": "(form, word, number, *, way='near', by='series')",
+                "judge_shown": "(form, word, number, stretch, *, way='near')",
+                "table": "(form, word, *, way='near')"},
 }
 CLASSES = {
     "errors": {"NoNumber": {}, "NoForm": {}, "NoStretch": {}, "NoText": {}, "NoLine": {},

@@ -18,6 +18,10 @@ USED_BUILTINS = set(
     " isinstance ord repr any all divmod iter next Exception ValueError TypeError KeyError IndexError LookupError"
     " ZeroDivisionError ArithmeticError OverflowError RuntimeError NotImplementedError AttributeError"
     " StopIteration NotImplemented".split())
+BUILTIN_METHODS = set(
+    "append clear copy count endswith extend find get index insert isalnum isalpha isdigit islower isspace isupper"
+    " items join keys ljust lower lstrip partition pop remove replace reverse rfind rjust rpartition rsplit rstrip"
+    " setdefault split splitlines startswith strip update upper values zfill bit_length".split())
 SPECIAL_METHODS = set("__init__ __eq__ __repr__ __str__ __len__ __enter__ __exit__ __call__ __iter__".split())
 BARRED_NODES = (ast.Div, ast.Global, ast.AsyncFunctionDef, ast.AsyncFor, ast.AsyncWith, ast.Await, ast.Import)
 
@@ -33,6 +37,17 @@ def bound_names(node):
     if isinstance(node, ast.ImportFrom):
         return [alias.asname or alias.name for alias in node.names]
     return []
+
+
+def imported_names(tree):
+    """The names that a file imports, with the file of the package that each is from."""
+    return {alias.name: node.module.rpartition(".")[2] for node in tree.body
+            if isinstance(node, ast.ImportFrom) for alias in node.names}
+
+
+def trees():
+    """The name of each file without its ending, and its code."""
+    return {path.stem: ast.parse(path.read_text(encoding="utf-8")) for path in FILES}
 
 
 def placed_nodes():
@@ -104,3 +119,49 @@ class Language(unittest.TestCase):
             if isinstance(node, ast.Attribute) and isinstance(node.ctx, ast.Store):
                 attributes.add(node.attr)
         self.assertEqual(methods & attributes, set())
+
+    def test_imports_are_from_the_defining_file_and_used(self):
+        all_trees = trees()
+        for file_name, tree in all_trees.items():
+            used = {node.id for node in ast.walk(tree) if isinstance(node, ast.Name)}
+            for name, source in imported_names(tree).items():
+                with self.subTest(file=file_name, name=name):
+                    own = [part for node in all_trees[source].body if not isinstance(node, ast.ImportFrom)
+                           for part in [node] + (node.targets if isinstance(node, ast.Assign) else [])]
+                    self.assertIn(name, [found for part in own for found in bound_names(part)])
+                    self.assertIn(name, used)
+
+    def test_no_two_files_import_from_each_other(self):
+        left = {name: set(imported_names(tree).values()) for name, tree in trees().items()}
+        while left:
+            ready = [name for name in left if not left[name] & set(left)]
+            self.assertTrue(ready, left)
+            for name in ready:
+                del left[name]
+
+    def test_no_local_name_is_that_of_an_import_or_a_class(self):
+        for file_name, tree in trees().items():
+            taken = set(imported_names(tree)) | {node.name for node in tree.body if isinstance(node, ast.ClassDef)}
+            for node in ast.walk(tree):
+                if isinstance(node, ast.FunctionDef):
+                    inner = [part for part in ast.walk(node) if part is not node]
+                    local = {name for part in inner for name in bound_names(part)}
+                    self.assertEqual(local & taken, set(), f"{file_name}: {node.name}")
+
+    def test_calls(self):
+        methods = {part.name for _, node in placed_nodes() if isinstance(node, ast.ClassDef)
+                   for part in node.body if isinstance(part, ast.FunctionDef)}
+        for place, node in placed_nodes():
+            self.assertNotIsInstance(node, (ast.GeneratorExp, ast.Set, ast.SetComp), place)
+            if isinstance(node, ast.Call) and isinstance(node.func, ast.Attribute):
+                self.assertIn(node.func.attr, BUILTIN_METHODS | methods, place)
+            if isinstance(node, ast.Compare) and any(isinstance(op, (ast.Is, ast.IsNot)) for op in node.ops):
+                self.assertIsInstance(node.comparators[-1], ast.Constant, place)
+            if isinstance(node, ast.Raise) and node.exc is not None:
+                self.assertIsInstance(node.exc, ast.Call, place)
+
+    def test_each_file_and_function_says_what_it_is(self):
+        for place, node in placed_nodes():
+            if isinstance(node, (ast.Module, ast.FunctionDef, ast.ClassDef)):
+                special = isinstance(node, ast.FunctionDef) and node.name in SPECIAL_METHODS
+                self.assertTrue(special or ast.get_docstring(node), place)
