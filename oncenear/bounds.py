@@ -1,6 +1,6 @@
 """Bounds of pi and of the logarithm of 2."""
 
-from oncenear.dots import number_of
+from oncenear.dots import lowered
 from oncenear.stretches import Stretch
 from oncenear.sums import inverse_sum
 from oncenear.wholes import need_whole_within
@@ -45,7 +45,7 @@ def stretch_of_sum(parts, bits, turn):
     # The sum is known to half a unit to each side, so that rounded outward the ends are at most 3 units apart.
     low = (total - off) >> guard
     high = -(-(total + off) >> guard)
-    return Stretch(number_of(low, -depth), number_of(high, -depth))
+    return Stretch(lowered(low, -depth), lowered(high, -depth))
 
 
 def units_of_sum(parts, depth, turn):

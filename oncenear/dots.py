@@ -1,7 +1,13 @@
-"""Numbers of twos: tuples (m, e) that stand for m times 2 to the power e."""
+"""Numbers of twos: tuples (m, e) that stand for m times 2 to the power e.
+
+All else is reckoned with these, thousands of times for one answer: what is surely a number goes to added, multiplied
+and compared, which don't look at that again.
+"""
 
 from oncenear.errors import NoNumber
-from oncenear.wholes import is_whole, sign_of
+from oncenear.wholes import is_whole
+
+NUMBER_NEEDED = "a number (m, e) with an odd m, or (0, 0), is needed"
 
 
 def is_number(thing):
@@ -9,21 +15,60 @@ def is_number(thing):
     if not isinstance(thing, tuple) or len(thing) != 2:
         return False
     m, e = thing
-    if not is_whole(m) or not is_whole(e):
+    if not isinstance(m, int) or not isinstance(e, int) or e is True or e is False:
         return False
-    return m & 1 == 1 or (m == 0 and e == 0)
+    if m & 1:
+        return m is not True
+    return m == 0 and e == 0 and m is not False
 
 
 def need_number(thing):
     """Refuse with NoNumber what is no number."""
     if not is_number(thing):
-        raise NoNumber("a number (m, e) with an odd m, or (0, 0), is needed")
+        raise NoNumber(NUMBER_NEEDED)
+
+
+def need_numbers(one, other):
+    """Refuse with NoNumber where one of two is no number."""
+    if not is_number(one) or not is_number(other):
+        raise NoNumber(NUMBER_NEEDED)
 
 
 def number_of(m, e=0):
     """The number m times 2 ** e."""
     if not is_whole(m) or not is_whole(e):
         raise NoNumber("two whole numbers are needed")
+    return lowered(m, e)
+
+
+def plus(one, other):
+    """The sum of two numbers."""
+    need_numbers(one, other)
+    return added(one, other)
+
+
+def less(one, other):
+    """One less the other."""
+    need_numbers(one, other)
+    return added(one, (-other[0], other[1]))
+
+
+def times(one, other):
+    """The product of two numbers."""
+    need_numbers(one, other)
+    return multiplied(one, other)
+
+
+def order_of(one, other):
+    """-1, 0 or 1, as one is less than, the same as, or greater than other."""
+    need_numbers(one, other)
+    return compared(one, other)
+
+
+def lowered(m, e):
+    """The number m times 2 ** e, of whole numbers."""
+    if m & 1:
+        return (m, e)
     if m == 0:
         return (0, 0)
     noughts = (m & -m).bit_length() - 1
@@ -35,57 +80,54 @@ def negated(number):
     return (-number[0], number[1])
 
 
-def plus(one, other):
-    """The sum of two numbers."""
-    need_number(one)
-    need_number(other)
-    e = min(one[1], other[1])
-    return number_of(floor_at(one, e) + floor_at(other, e), e)
+def added(one, other):
+    """What plus tells, of numbers."""
+    m, e = one
+    n, f = other
+    if e == f:
+        return lowered(m + n, e)
+    if m == 0:
+        return other
+    if n == 0:
+        return one
+    # One is even in units of the other's power, the other odd, so that the sum is odd.
+    if e > f:
+        return ((m << (e - f)) + n, f)
+    return (m + (n << (f - e)), e)
 
 
-def less(one, other):
-    """One less the other."""
-    need_number(one)
-    need_number(other)
-    return plus(one, negated(other))
+def multiplied(one, other):
+    """What times tells, of numbers."""
+    m = one[0] * other[0]
+    return (m, one[1] + other[1]) if m else (0, 0)
 
 
-def times(one, other):
-    """The product of two numbers."""
-    need_number(one)
-    need_number(other)
-    return number_of(one[0] * other[0], one[1] + other[1])
+def compared(one, other):
+    """What order_of tells, of numbers."""
+    m, e = one
+    n, f = other
+    if e != f and m and n and (m > 0) == (n > 0):
+        size, other_size = m.bit_length() + e, n.bit_length() + f
+        if size != other_size:
+            return 1 if (size > other_size) == (m > 0) else -1
+        # Of like size, they are brought to one power by a shift that is no longer than an m.
+        if e > f:
+            m <<= e - f
+        else:
+            n <<= f - e
+    if m == n:
+        return 0
+    return 1 if m > n else -1
 
 
-def order_of(one, other):
-    """-1, 0 or 1, as one is less than, the same as, or greater than other."""
-    need_number(one)
-    need_number(other)
-    rank, other_rank = rank_of(one), rank_of(other)
-    if rank != other_rank:
-        return 1 if rank > other_rank else -1
-    # Of like size, they are brought to one exponent by a shift that is no longer than an m.
-    return sign_of(less(one, other)[0])
+def lesser(one, other):
+    """The lesser one of two numbers."""
+    return one if compared(one, other) <= 0 else other
 
 
-def rank_of(number):
-    """The sign and the size of a number, so that ranks that differ are in the order of the numbers."""
-    sign = sign_of(number[0])
-    return (sign, sign * size_of(number))
-
-
-def least_of(numbers):
-    """The least one of a list of one number or more."""
-    least = numbers[0]
-    for number in numbers:
-        if order_of(number, least) < 0:
-            least = number
-    return least
-
-
-def greatest_of(numbers):
-    """The greatest one of a list of one number or more."""
-    return negated(least_of([negated(number) for number in numbers]))
+def greater(one, other):
+    """The greater one of two numbers."""
+    return one if compared(one, other) >= 0 else other
 
 
 def size_of(number):

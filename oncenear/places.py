@@ -1,6 +1,6 @@
 """Places of the functions: the numbers at which they have a worth here."""
 
-from oncenear.dots import order_of, size_of
+from oncenear.dots import compared, size_of
 from oncenear.errors import NoPlace
 
 MOST_SIZE = 800
@@ -19,7 +19,7 @@ def is_place(word, number):
 
 def is_between(number, least, most):
     """Whether a number is from least to most."""
-    return order_of(least, number) <= 0 and order_of(number, most) <= 0
+    return compared(least, number) <= 0 and compared(number, most) <= 0
 
 
 def need_place(word, number):

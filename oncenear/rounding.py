@@ -1,6 +1,6 @@
 """Forms of so many bits, and rounding of fractions to their numbers."""
 
-from oncenear.dots import ceiling_at, floor_at, need_number, negated, number_of, order_of, size_of
+from oncenear.dots import ceiling_at, compared, floor_at, lowered, need_number, negated, size_of
 from oncenear.errors import NoForm, NoNumber, TooGreat, TooMany
 from oncenear.wholes import is_whole, is_whole_within
 from oncenear.words import WAYS, need_word
@@ -45,7 +45,7 @@ class Form:
     def top(self):
         """The greatest number of the form."""
         places = min(self.bits, self.most - self.least)
-        return number_of((1 << places) - 1, self.most - places)
+        return lowered((1 << places) - 1, self.most - places)
 
     def numbers(self):
         """The rising list of all numbers of the form."""
@@ -53,19 +53,19 @@ class Form:
         if many > MOST_NUMBERS:
             raise TooMany(many)
         rising = []
-        number = self.above((0, 0))
-        while number is not None:
+        number = next_outward(self, (0, 0))
+        while is_below_most(self, number):
             rising.append(number)
-            number = self.above(number)
+            number = next_outward(self, number)
         return [negated(found) for found in rising[::-1]] + [(0, 0)] + rising
 
     def above(self, number):
         """The least number of the form that is greater than the number, or None."""
         need_number(number)
         top = self.top()
-        if order_of(number, top) >= 0:
+        if compared(number, top) >= 0:
             return None
-        if order_of(number, negated(top)) < 0:
+        if compared(number, negated(top)) < 0:
             return negated(top)
         if number[0] < 0:
             return negated(next_inward(self, negated(number)))
@@ -96,7 +96,7 @@ def step_power_of(form, number):
 def next_outward(form, number):
     """The next greater number of the form, without a greatest exponent, of a number from 0 on."""
     power = step_power_of(form, number)
-    return number_of(floor_at(number, power) + 1, power)
+    return lowered(floor_at(number, power) + 1, power)
 
 
 def next_inward(form, number):
@@ -106,7 +106,7 @@ def next_inward(form, number):
         # Just below a power of two the step is that of the lesser size.
         size -= 1
     power = step_power(form, size)
-    return number_of(ceiling_at(number, power) - 1, power)
+    return lowered(ceiling_at(number, power) - 1, power)
 
 
 def need_form(thing):
@@ -148,7 +148,7 @@ def rounded_freely(form, top, bottom, way):
     whole, rest = divmod(top, bottom)
     if goes_up(whole, rest, bottom, way):
         whole += 1
-    return number_of(whole, power)
+    return lowered(whole, power)
 
 
 def rounded_twos(form, m, e, way):
@@ -157,11 +157,11 @@ def rounded_twos(form, m, e, way):
         return (0, 0)
     power = step_power(form, m.bit_length() - 1 + e)
     if power <= e:
-        return number_of(m, e)
+        return lowered(m, e)
     whole = m >> (power - e)
     if goes_up(whole, m - (whole << (power - e)), 1 << (power - e), way):
         whole += 1
-    return number_of(whole, power)
+    return lowered(whole, power)
 
 
 def fraction_size(top, bottom):

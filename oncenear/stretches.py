@@ -1,7 +1,7 @@
 """Stretches between two numbers, and reckoning with them."""
 
-from oncenear.dots import ceiling_at, floor_at, greatest_of, least_of, less, need_number, negated, number_of
-from oncenear.dots import order_of, plus, times
+from oncenear.dots import added, ceiling_at, compared, floor_at, greater, lesser, lowered, multiplied
+from oncenear.dots import need_number, need_numbers, negated
 from oncenear.errors import NoStretch
 from oncenear.wholes import ceiling_root, floor_root, need_whole_within
 
@@ -12,9 +12,8 @@ class Stretch:
     """All numbers from low to high, both among them."""
 
     def __init__(self, low, high):
-        need_number(low)
-        need_number(high)
-        if order_of(low, high) > 0:
+        need_numbers(low, high)
+        if compared(low, high) > 0:
             raise NoStretch("low is greater than high")
         self.low = low
         self.high = high
@@ -28,23 +27,23 @@ class Stretch:
     def holds(self, number):
         """Whether the number is no less than low and no greater than high."""
         need_number(number)
-        return order_of(self.low, number) <= 0 and order_of(number, self.high) <= 0
+        return compared(self.low, number) <= 0 and compared(number, self.high) <= 0
 
     def width(self):
         """High less low."""
-        return less(self.high, self.low)
+        return added(self.high, negated(self.low))
 
     def common(self, other):
         """The stretch that both have in common, or None."""
         need_stretch(other)
-        low = greatest_of([self.low, other.low])
-        high = least_of([self.high, other.high])
-        return None if order_of(low, high) > 0 else Stretch(low, high)
+        low = greater(self.low, other.low)
+        high = lesser(self.high, other.high)
+        return None if compared(low, high) > 0 else Stretch(low, high)
 
     def within(self, other):
         """Whether all of this stretch lies within the other one."""
         need_stretch(other)
-        return other.holds(self.low) and other.holds(self.high)
+        return compared(other.low, self.low) <= 0 and compared(self.high, other.high) <= 0
 
 
 def need_stretch(thing):
@@ -53,37 +52,44 @@ def need_stretch(thing):
         raise NoStretch("a stretch is needed")
 
 
-def end_pairs(one, other):
-    """The pairs of an end of the one and an end of the other: least and greatest worths lie there."""
-    return [(first, second) for first in (one.low, one.high) for second in (other.low, other.high)]
-
-
 def sum_of(one, other):
     """The least stretch that holds all sums of a number of the one and one of the other."""
     need_stretch(one)
     need_stretch(other)
-    return Stretch(plus(one.low, other.low), plus(one.high, other.high))
+    return Stretch(added(one.low, other.low), added(one.high, other.high))
 
 
 def product_of(one, other):
     """The least stretch that holds all products of a number of the one and one of the other."""
     need_stretch(one)
     need_stretch(other)
-    products = [times(first, second) for first, second in end_pairs(one, other)]
-    return Stretch(least_of(products), greatest_of(products))
+    a, b, c, d = one.low, one.high, other.low, other.high
+    # Least and greatest products are those of ends: of which ends, the signs tell, but where both hold both signs.
+    if a[0] >= 0:
+        return Stretch(multiplied(a if c[0] >= 0 else b, c), multiplied(b if d[0] >= 0 else a, d))
+    if b[0] <= 0:
+        return Stretch(multiplied(a if d[0] >= 0 else b, d), multiplied(a if c[0] <= 0 else b, c))
+    if c[0] >= 0:
+        return Stretch(multiplied(a, d), multiplied(b, d))
+    if d[0] <= 0:
+        return Stretch(multiplied(b, c), multiplied(a, c))
+    return Stretch(lesser(multiplied(a, d), multiplied(b, c)), greater(multiplied(a, c), multiplied(b, d)))
 
 
 def quotient_of(one, other, *, bits):
     """The least stretch with ends that are whole numbers by 2 ** bits that holds all quotients."""
     need_stretch(one)
     need_stretch(other)
-    if other.holds((0, 0)):
+    if other.low[0] <= 0 <= other.high[0]:
         raise NoStretch("the divisor holds 0")
     need_whole_within(bits, 0, MOST_BITS)
-    pairs = end_pairs(one, other)
-    low = min([floor_quotient(first, second, bits) for first, second in pairs])
-    high = max([-floor_quotient(negated(first), second, bits) for first, second in pairs])
-    return Stretch(number_of(low, -bits), number_of(high, -bits))
+    low, high, least, most = one.low, one.high, other.low, other.high
+    if most[0] < 0:
+        low, high, least, most = negated(high), negated(low), negated(most), negated(least)
+    # The divisors are above 0 now: the greater one makes a quotient the nearer to 0.
+    low = floor_quotient(low, most if low[0] >= 0 else least, bits)
+    high = -floor_quotient(negated(high), least if high[0] >= 0 else most, bits)
+    return Stretch(lowered(low, -bits), lowered(high, -bits))
 
 
 def floor_quotient(one, other, bits):
@@ -102,4 +108,4 @@ def root_of(one, *, bits):
     need_whole_within(bits, 0, MOST_BITS)
     low = floor_root(floor_at(one.low, -2 * bits))
     high = ceiling_root(ceiling_at(one.high, -2 * bits))
-    return Stretch(number_of(low, -bits), number_of(high, -bits))
+    return Stretch(lowered(low, -bits), lowered(high, -bits))

@@ -1,6 +1,6 @@
 """Worths told in forms, rounded just once."""
 
-from oncenear.dots import need_number, number_of, size_of
+from oncenear.dots import lowered, need_number, size_of
 from oncenear.kept import Kept
 from oncenear.places import is_place, need_place
 from oncenear.rounding import is_below_most, need_below_most, need_form, rounded_twos, step_power
@@ -23,7 +23,7 @@ def shown(form, word, number, *, way="near", by="series"):
     """A stretch that holds the worth, all of whose numbers are rounded to the number that told tells."""
     need_told(form, word, number, way, by)
     low, high, power = settled(form, word, number, way, by, Kept())[1]
-    return Stretch(number_of(low, power), number_of(high, power))
+    return Stretch(lowered(low, power), lowered(high, power))
 
 
 def judge_shown(form, word, number, stretch, *, way="near"):
@@ -95,7 +95,7 @@ def holds_worth(stretch, word, number):
     more = FIRST_MORE
     while True:
         low, high, power = ends_of_worth(word, number, bits + more, "series", kept)
-        around = Stretch(number_of(low, power), number_of(high, power))
+        around = Stretch(lowered(low, power), lowered(high, power))
         if around.within(stretch):
             return True
         if around.common(stretch) is None:

@@ -1,6 +1,6 @@
 """Walks: sums of the first terms of series, what is left behind them, and the steps of products and turns."""
 
-from oncenear.dots import need_number, negated, number_of, order_of, plus
+from oncenear.dots import added, compared, lowered, need_number, negated
 from oncenear.errors import NoPlace
 from oncenear.kept import Kept
 from oncenear.places import is_between, need_place
@@ -176,16 +176,17 @@ def rest_of_log(number, many):
 def rest_of_power(number, many):
     """What is left of the power of e of a number above 0."""
     top, bottom = term_at("exp", number, many)
-    if order_of(number, (1, 0)) <= 0:
+    if compared(number, (1, 0)) <= 0:
         # Each term is at most half of the one ahead.
         return stretch_between(top, 2 * top, bottom)
     # No less is left than that term, so its size tells how many bits are needed.
     bits = END_BITS - fraction_size(top, bottom)
     low, high, power = ends_of_worth("exp", number, bits, "series", Kept())
     top, bottom = sum_of_terms("exp", number, many)
-    raised, lowered = max(power, 0), max(-power, 0)
-    top <<= lowered
-    return stretch_between((low << raised) * bottom - top, (high << raised) * bottom - top, bottom << lowered)
+    # The ends of the power and the sum are brought to one bottom.
+    top <<= max(-power, 0)
+    low, high = (low << max(power, 0)) * bottom, (high << max(power, 0)) * bottom
+    return stretch_between(low - top, high - top, bottom << max(-power, 0))
 
 
 def stretch_between(one, other, bottom):
@@ -200,8 +201,8 @@ def end_below(top, bottom):
         return (0, 0)
     power = fraction_size(top, bottom) + 1 - END_BITS
     if power < 0:
-        return number_of((top << -power) // bottom, power)
-    return number_of(top // (bottom << power), power)
+        return lowered((top << -power) // bottom, power)
+    return lowered(top // (bottom << power), power)
 
 
 def steps_of_log(number, many):
@@ -237,7 +238,7 @@ def steps_of_power(number, many):
     bits = many + 8
     while True:
         low, high, power = ends_of_worth("exp", number, bits, "series", kept)
-        steps = steps_up_to(number_of(low, power), number_of(high, power), many)
+        steps = steps_up_to(lowered(low, power), lowered(high, power), many)
         if steps is not None:
             return steps
         # That ends, as no such product is the power itself.
@@ -249,10 +250,10 @@ def steps_up_to(low, high, many):
     product = (1, 0)
     steps = []
     for i in range(1, many + 1):
-        grown = plus(product, (product[0], product[1] - i))
-        if order_of(grown, low) <= 0:
+        grown = added(product, (product[0], product[1] - i))
+        if compared(grown, low) <= 0:
             product = grown
             steps.append(i)
-        elif order_of(grown, high) <= 0:
+        elif compared(grown, high) <= 0:
             return None
     return steps

@@ -1,4 +1,4 @@
-"""Whole numbers: what is one, their signs and their roots."""
+"""Whole numbers: what is one, and their roots."""
 
 from oncenear.errors import NoNumber
 
@@ -19,24 +19,20 @@ def need_whole_within(thing, least, most):
         raise NoNumber(f"a whole number from {least} to {most} is needed")
 
 
-def sign_of(whole):
-    """-1, 0 or 1, as whole is below, at or above 0."""
-    if whole == 0:
-        return 0
-    return 1 if whole > 0 else -1
-
-
 def floor_root(whole):
     """The greatest whole number whose square is no greater than whole, which is 0 or more."""
     if whole == 0:
         return 0
-    # Newton's steps fall until they reach the root, if they begin above it.
-    guess = 1 << ((whole.bit_length() + 1) // 2)
-    nearer = (guess + whole // guess) // 2
-    while nearer < guess:
-        guess = nearer
-        nearer = (guess + whole // guess) // 2
-    return guess
+    # The root of the first bits is known to 1; each round makes those twice as many, by half the sum of the root and
+    # what whole divided by it is.
+    half = (whole.bit_length() - 1) // 2
+    root = 1
+    known = 0
+    for place in range(half.bit_length() - 1, -1, -1):
+        before = known
+        known = half >> place
+        root = (root << (known - before - 1)) + (whole >> (2 * half - before - known + 1)) // root
+    return root if root * root <= whole else root - 1
 
 
 def ceiling_root(whole):

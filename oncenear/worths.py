@@ -3,7 +3,7 @@
 from oncenear.by_halves import worth_by_halves
 from oncenear.by_series import worth_by_series
 from oncenear.by_steps import worth_by_steps
-from oncenear.dots import need_number, number_of
+from oncenear.dots import lowered, need_number
 from oncenear.kept import Kept
 from oncenear.places import need_place
 from oncenear.stretches import Stretch
@@ -62,7 +62,7 @@ def stretch_around(word, number, bits, by, kept):
     if exact is not None:
         return Stretch(exact, exact)
     low, high, power = ends_of_worth(word, number, bits, by, kept)
-    return Stretch(number_of(low, power), number_of(high, power))
+    return Stretch(lowered(low, power), lowered(high, power))
 
 
 def ends_of_worth(word, number, bits, by, kept):

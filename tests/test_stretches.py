@@ -1,11 +1,12 @@
 """Point 8: stretches."""
 
+import random
 import unittest
 from fractions import Fraction
 from itertools import product
 from math import isqrt
 
-from oncenear.dots import number_of
+from oncenear.dots import number_of, order_of, plus, times
 from oncenear.errors import NoNumber, NoStretch
 from oncenear.stretches import Stretch, product_of, quotient_of, root_of, sum_of
 from tests.helpers import FORM, NO_NUMBERS, NO_STRETCHES, NO_WHOLES, STRETCH, number_from, told_soon, worth
@@ -229,3 +230,74 @@ class Roots(unittest.TestCase):
         for bits in NO_BITS:
             with self.subTest(bits):
                 self.assertRaises(NoNumber, root_of, STRETCH, bits=bits)
+
+
+class Fives(unittest.TestCase):
+    """Five stretches each with each, as many are asked for one behind another."""
+
+    @staticmethod
+    def number(chance):
+        """A number of up to 200 bits, with an exponent up to 800 in size."""
+        length = chance.choice((1, 8, 64, 200))
+        e = chance.randrange(-800, 801) if chance.random() < 0.3 else chance.randrange(-length - 9, 10)
+        return number_of(chance.choice((-1, 1)) * chance.getrandbits(length), e)
+
+    def stretch(self, chance):
+        """A stretch, now and then of one number."""
+        low, high = sorted([self.number(chance), self.number(chance)], key=worth)
+        return Stretch(low, low if chance.random() < 0.2 else high)
+
+    def five(self, chance):
+        """Five of them."""
+        return [self.stretch(chance) for _ in range(5)]
+
+    @staticmethod
+    def ask(one, other, bits, parts):
+        """All that is asked of a pair: what is told, as numbers, stretches, True and False."""
+        numbers = [plus(stretch.low, times(stretch.width(), part)) for stretch in (one, other) for part in parts]
+        told = [one.holds(number) for number in numbers] + [other.holds(number) for number in numbers]
+        sums, products = sum_of(one, other), product_of(one, other)
+        for first, second in zip(numbers[:3], numbers[3:]):
+            told += [sums.holds(plus(first, second)), products.holds(times(first, second))]
+        told += [one.common(other), other.common(one), one.within(other), other.within(one), sums, products]
+        if not other.holds((0, 0)):
+            told += [quotient_of(one, other, bits=bits), quotient_of(one, other, bits=bits + 7)]
+            told += [order_of(times(end, by), other_end) for end in (told[-1].low, told[-1].high)
+                     for by in (other.low, other.high) for other_end in (one.low, one.high)]
+        if order_of((0, 0), one.low) <= 0:
+            told += [root_of(one, bits=bits), root_of(one, bits=bits + 7)]
+        return told
+
+    def test_against_fractions(self):
+        chance = random.Random(8)
+        for _ in range(12):
+            for one, other in product(self.five(chance), repeat=2):
+                products = [x * y for x in ends(one) for y in ends(other)]
+                self.assertEqual(ends(product_of(one, other)), (min(products), max(products)))
+                sums = [x + y for x in ends(one) for y in ends(other)]
+                self.assertEqual(ends(sum_of(one, other)), (min(sums), max(sums)))
+                low, high = max(ends(one)[0], ends(other)[0]), min(ends(one)[1], ends(other)[1])
+                common = one.common(other)
+                self.assertEqual(None if common is None else ends(common), (low, high) if low <= high else None)
+                self.assertIs(one.within(other), (low, high) == ends(one))
+                bits = chance.randrange(300)
+                if not ends(other)[0] <= 0 <= ends(other)[1]:
+                    quotients = [x / y for x in ends(one) for y in ends(other)]
+                    self.assertEqual(quotient_of(one, other, bits=bits), grid(min(quotients), max(quotients), bits))
+                if ends(one)[0] >= 0:
+                    roots = root_of(one, bits=bits)
+                    low, high = [Fraction(isqrt((x * 4 ** bits).__floor__()), 2 ** bits) for x in ends(one)]
+                    self.assertEqual(ends(roots), (low, high if high ** 2 == ends(one)[1] else high + Fraction(1, 2 ** bits)))
+
+    def test_soon(self):
+        chance = random.Random(9)
+        fives = [self.five(chance) for _ in range(60)]
+        parts = [(0, 0), (3, -2), (1, 0)]
+        told_soon(self, lambda: [self.ask(one, other, 150, parts) for five in fives
+                                 for one, other in product(five, repeat=2)], 60 / 150)
+
+    def test_what_is_asked_of_a_pair(self):
+        chance = random.Random(10)
+        for one, other in product(self.five(chance), repeat=2):
+            told = self.ask(one, other, 99, [(0, 0), (3, -2), (1, 0)])
+            self.assertTrue(all(told[:3] + told[9:18]))
