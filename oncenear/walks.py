@@ -69,14 +69,15 @@ def need_series(word, number, many):
 
 
 def argument_of(word, number):
-    """What the series of a word is of, in lowest terms: top, bottom, and how many times 2 is in its bottom beside."""
+    """What the series of a word is of: top, bottom, and how many times 2 is in its bottom beside.
+
+    Top and bottom have no prime in common but 2.
+    """
     m, e = number
     if word != "log":
         return m << max(e, 0), 1, max(-e, 0)
     top, bottom = ratio_of(number)
-    # (x - 1) by (x + 1): of an odd whole number both are even.
-    halved = 1 if e == 0 else 0
-    return (top - bottom) >> halved, (top + bottom) >> halved, 0
+    return top - bottom, top + bottom, 0
 
 
 def sum_of_terms(word, number, many):

@@ -6,8 +6,9 @@ from itertools import combinations, product
 
 from oncenear.dots import less, negated, number_of, plus
 from oncenear.errors import NoNumber, NoPlace, NoWord
+from oncenear.kept import Kept
 from oncenear.stretches import Stretch
-from oncenear.worths import exact_worth, is_exact, worth_bounds
+from oncenear.worths import exact_worth, is_exact, reckoned, worth_bounds
 from tests.helpers import FORM, NO_NUMBERS, NO_WHOLES, STRANGE, STRETCH, told_soon, worth
 from tests.oracle import floor_number, holds_about, pi_about, worth_about
 
@@ -70,6 +71,16 @@ class Bounds(unittest.TestCase):
         for word in FUNCTIONS:
             for number, bits in product(CASES[word], (0, 1, 20, 200, 600)):
                 self.check(word, number, bits)
+
+    def test_the_methods_are_off_by_no_more_than_they_count(self):
+        # The ends that a method itself tells lie much nearer to the worth than those of the stretch.
+        for word in FUNCTIONS:
+            numbers = [number for number in CASES[word] if not is_exact(word, number)]
+            for number, bits, by in product(numbers, (-40, 0, 13, 150, 600), METHODS):
+                low, high, power = reckoned(word, number, bits, by, Kept())
+                true, unit = worth_about(word, number), Fraction(2) ** power
+                with self.subTest(word=word, number=number, bits=bits, by=by):
+                    self.assertTrue(low * unit <= true <= high * unit)
 
     def test_many_bits(self):
         for word in FUNCTIONS:
