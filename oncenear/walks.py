@@ -38,7 +38,8 @@ def series_rest(word, number, many):
         return rest_of_log(number, many)
     if word == "exp" and number[0] > 0:
         return rest_of_power(number, many)
-    # The signs are by turns: what is left is between nought and the next term.
+    # The signs are by turns: what is left is between nought and the next term, of the sine, the cosine and powers of
+    # numbers below 0 even where the terms grow at first.
     top, bottom = term_at(word, number, many)
     return stretch_between(0, top, bottom)
 
