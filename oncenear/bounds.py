@@ -2,7 +2,7 @@
 
 from oncenear.dots import lowered
 from oncenear.stretches import Stretch
-from oncenear.sums import inverse_sum
+from oncenear.sums import floor_units, inverse_sum
 from oncenear.wholes import need_whole_within
 from oncenear.words import need_word
 
@@ -28,35 +28,24 @@ def log_two_bounds(bits, *, by="three"):
 
 
 def pi_units(depth):
-    """Pi in units of 2 ** -depth, off by less than 3 by 2."""
-    return units_of_sum(PI_WAYS["five"], depth, -1)
+    """The greatest whole number of units 2 ** -depth that is no greater than pi."""
+    return floor_units(lambda finer: weighed_sum(PI_WAYS["five"], finer, -1), depth)
 
 
 def log_two_units(depth):
-    """The logarithm of 2 in units of 2 ** -depth, off by less than 3 by 2."""
-    return units_of_sum(LOG_TWO_WAYS["three"], depth, 1)
+    """The greatest whole number of units 2 ** -depth that is no greater than the logarithm of 2."""
+    return floor_units(lambda finer: weighed_sum(LOG_TWO_WAYS["three"], finer, 1), depth)
 
 
 def stretch_of_sum(parts, bits, turn):
     """The stretch around a sum of parts, no wider than 2 ** -bits."""
     depth = bits + 2
-    guard = guard_of(depth)
+    guard = depth.bit_length() + 12
     total, off = weighed_sum(parts, depth + guard, turn)
     # The sum is known to half a unit to each side, so that rounded outward the ends are at most 3 units apart.
     low = (total - off) >> guard
     high = -(-(total + off) >> guard)
     return Stretch(lowered(low, -depth), lowered(high, -depth))
-
-
-def units_of_sum(parts, depth, turn):
-    """A sum of parts in units of 2 ** -depth, off by less than 3 by 2."""
-    guard = guard_of(depth)
-    return weighed_sum(parts, depth + guard, turn)[0] >> guard
-
-
-def guard_of(depth):
-    """How much deeper a sum of parts is reckoned, so that it is off by less than half a unit of 2 ** -depth."""
-    return depth.bit_length() + 12
 
 
 def weighed_sum(parts, depth, turn):

@@ -67,9 +67,7 @@ class Form:
             return None
         if compared(number, negated(top)) < 0:
             return negated(top)
-        if number[0] < 0:
-            return negated(next_inward(self, negated(number)))
-        return next_outward(self, number)
+        return next_above(self, number)
 
     def below(self, number):
         """The greatest number of the form that is less than the number, or None."""
@@ -91,6 +89,13 @@ def step_power(form, size):
 def step_power_of(form, number):
     """The exponent of the form's step at the number's size."""
     return form.least if number[0] == 0 else step_power(form, size_of(number))
+
+
+def next_above(form, number):
+    """The next greater number of the form, without a greatest exponent."""
+    if number[0] < 0:
+        return negated(next_inward(form, negated(number)))
+    return next_outward(form, number)
 
 
 def next_outward(form, number):

@@ -4,6 +4,21 @@ They are told in units, the unit being 2 ** -depth, with by how many units they 
 """
 
 
+def floor_units(reckon, depth):
+    """The greatest whole number of units that is no greater than what reckon tells at any depth, with its off.
+
+    What is kept is told so, as a deeper one, cut, is then the very same: no answer hangs on what was asked ahead.
+    """
+    guard = depth.bit_length() + 12
+    while True:
+        total, off = reckon(depth + guard)
+        units = (total - off) >> guard
+        if units == (total + off) >> guard:
+            return units
+        # That ends, as none of what is kept is a number of twos.
+        guard *= 2
+
+
 def inverse_sum(n, depth, turn):
     """The sum of 1 by (k times n ** k) over odd k, n from 3 on; the signs by turns where turn is -1, all + where 1."""
     power = (1 << depth) // n

@@ -15,15 +15,12 @@ FIRST_MORE = 14
 
 def told(form, word, number, *, way="near", by="series"):
     """The number of the form that the worth itself is rounded to, by the way."""
-    need_told(form, word, number, way, by)
-    return need_below_most(form, settled(form, word, number, way, by, Kept())[0])
+    return told_from(Kept(), form, word, number, way, by)
 
 
 def shown(form, word, number, *, way="near", by="series"):
     """A stretch that holds the worth, all of whose numbers are rounded to the number that told tells."""
-    need_told(form, word, number, way, by)
-    low, high, power = settled(form, word, number, way, by, Kept())[1]
-    return Stretch(lowered(low, power), lowered(high, power))
+    return shown_from(Kept(), form, word, number, way, by)
 
 
 def judge_shown(form, word, number, stretch, *, way="near"):
@@ -37,7 +34,31 @@ def judge_shown(form, word, number, stretch, *, way="near"):
     exact = exact_at(word, number)
     if exact is not None:
         return stretch.holds(exact)
-    return holds_worth(stretch, word, number)
+    return holds_worth(stretch, word, number, Kept())
+
+
+def table(form, word, *, way="near"):
+    """The list of (number, told) of all numbers of the form that are places and whose told isn't refused."""
+    kept = Kept()
+    rows = []
+    for number in places_among(form, word, way):
+        answer = settled(form, word, number, way, "series", kept)[0]
+        if is_below_most(form, answer):
+            rows.append((number, answer))
+    return rows
+
+
+def told_from(kept, form, word, number, way, by):
+    """What told tells, with what is kept already."""
+    need_told(form, word, number, way, by)
+    return need_below_most(form, settled(form, word, number, way, by, kept)[0])
+
+
+def shown_from(kept, form, word, number, way, by):
+    """What shown tells, with what is kept already."""
+    need_told(form, word, number, way, by)
+    low, high, power = settled(form, word, number, way, by, kept)[1]
+    return Stretch(lowered(low, power), lowered(high, power))
 
 
 def need_told(form, word, number, way, by):
@@ -50,13 +71,21 @@ def need_told(form, word, number, way, by):
     need_place(word, number)
 
 
+def places_among(form, word, way):
+    """The rising list of all numbers of the form that are places of the function; refused as table is."""
+    need_form(form)
+    need_word(word, FUNCTIONS)
+    need_word(way, WAYS)
+    return [number for number in form.numbers() if is_place(word, number)]
+
+
 def settled(form, word, number, way, by, kept):
     """The number that the worth is rounded to, and low, high and power of a stretch that is rounded to it."""
     exact = exact_at(word, number)
     if exact is not None:
         m, e = exact
         return rounded_twos(form, m, e, way), (m, m, e)
-    bits = -step_power(form, likely_size(word, number))
+    bits = step_bits(form, word, number)
     more = FIRST_MORE
     while True:
         low, high, power = ends_of_worth(word, number, bits + more, by, kept)
@@ -65,6 +94,11 @@ def settled(form, word, number, way, by, kept):
             return answer, (low, high, power)
         # That ends, as a worth that isn't exact lies on no border.
         more *= 2
+
+
+def step_bits(form, word, number):
+    """To how many bits a worth is known when it is known to about the form's step at its size."""
+    return -step_power(form, likely_size(word, number))
 
 
 def likely_size(word, number):
@@ -86,11 +120,10 @@ def likely_size_of_log(number):
     return (top - bottom).bit_length() - bottom.bit_length()
 
 
-def holds_worth(stretch, word, number):
+def holds_worth(stretch, word, number, kept):
     """Whether a stretch holds a worth that isn't exact."""
     if stretch.low == stretch.high:
         return False
-    kept = Kept()
     bits = -size_of(stretch.width())
     more = FIRST_MORE
     while True:
@@ -102,18 +135,3 @@ def holds_worth(stretch, word, number):
             return False
         # That ends, as a worth that isn't exact is no end of a stretch.
         more *= 2
-
-
-def table(form, word, *, way="near"):
-    """The list of (number, told) of all numbers of the form that are places and whose told isn't refused."""
-    need_form(form)
-    need_word(word, FUNCTIONS)
-    need_word(way, WAYS)
-    kept = Kept()
-    rows = []
-    for number in form.numbers():
-        if is_place(word, number):
-            answer = settled(form, word, number, way, "series", kept)[0]
-            if is_below_most(form, answer):
-                rows.append((number, answer))
-    return rows

@@ -7,7 +7,7 @@ from oncenear.places import is_between, need_place
 from oncenear.rounding import fraction_size
 from oncenear.shares import ratio_of
 from oncenear.stretches import Stretch
-from oncenear.wholes import need_whole_within
+from oncenear.wholes import need_whole_within, power_of
 from oncenear.words import need_word
 from oncenear.worths import ends_of_worth
 
@@ -120,16 +120,6 @@ def term_at(word, number, place):
     top = power_of(x_top, k) * (2 if word == "log" else 1)
     bottom = power_of(x_bottom, k) * (k if word in ("arc", "log") else factorial_of(k)) << (twos * k)
     return (-top if turn < 0 and place & 1 else top), bottom
-
-
-def power_of(base, k):
-    """The k-th power of a whole number."""
-    power = 1
-    for place in range(k.bit_length() - 1, -1, -1):
-        power *= power
-        if k >> place & 1:
-            power *= base
-    return power
 
 
 def factorial_of(k):

@@ -39,3 +39,13 @@ def ceiling_root(whole):
     """The least whole number whose square is no less than whole, which is 0 or more."""
     root = floor_root(whole)
     return root if root * root == whole else root + 1
+
+
+def power_of(base, k):
+    """The k-th power of a whole number."""
+    power = 1
+    for place in range(k.bit_length() - 1, -1, -1):
+        power *= power
+        if k >> place & 1:
+            power *= base
+    return power

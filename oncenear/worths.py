@@ -15,12 +15,7 @@ MOST_BITS = 600
 
 def worth_bounds(word, number, *, bits, by="series"):
     """A stretch that holds the function's worth at the number, no wider than 2 ** -bits."""
-    need_word(word, FUNCTIONS)
-    need_word(by, METHODS)
-    need_number(number)
-    need_whole_within(bits, 0, MOST_BITS)
-    need_place(word, number)
-    return stretch_around(word, number, bits, by, Kept())
+    return worth_bounds_from(Kept(), word, number, bits, by)
 
 
 def is_exact(word, number):
@@ -56,8 +51,13 @@ def exact_root(number):
     return (root, e >> 1) if root * root == m else None
 
 
-def stretch_around(word, number, bits, by, kept):
-    """The stretch that worth_bounds tells of a place."""
+def worth_bounds_from(kept, word, number, bits, by):
+    """What worth_bounds tells, with what is kept already."""
+    need_word(word, FUNCTIONS)
+    need_word(by, METHODS)
+    need_number(number)
+    need_whole_within(bits, 0, MOST_BITS)
+    need_place(word, number)
     exact = exact_at(word, number)
     if exact is not None:
         return Stretch(exact, exact)

@@ -23,6 +23,10 @@ FUNCTIONS = {
                 "shown": "(form, word, number, *, way='near', by='series')",
                 "judge_shown": "(form, word, number, stretch, *, way='near')",
                 "table": "(form, word, *, way='near')"},
+    "hardness": {"hardness": "(form, word, number, *, way='near')", "hardest": "(form, word, *, way='near')",
+                 "hard_paper": "(form, word, *, way='near')", "judge_paper": "(form, word, thing, *, way='near')"},
+    "texts": {"number_text": "(number)", "read_number": "(text)", "decimal_text": "(number)",
+              "read_decimal": "(text)"},
 }
 CLASSES = {
     "errors": {"NoNumber": {}, "NoForm": {}, "NoStretch": {}, "NoText": {}, "NoLine": {},
@@ -35,6 +39,12 @@ CLASSES = {
     "stretches": {"Stretch": {"__init__": "(self, low, high)", "__eq__": "(self, other)", "__repr__": "(self)",
                               "holds": "(self, number)", "width": "(self)", "common": "(self, other)",
                               "within": "(self, other)"}},
+    "works": {"Works": {"__init__": "(self)", "told": "(self, form, word, number, *, way='near', by='series')",
+                        "shown": "(self, form, word, number, *, way='near', by='series')",
+                        "worth_bounds": "(self, word, number, *, bits, by='series')",
+                        "hardness": "(self, form, word, number, *, way='near')", "pi_bounds": "(self, bits)",
+                        "log_two_bounds": "(self, bits)", "known": "(self)", "forget": "(self)"}},
+    "desk": {"Desk": {"__init__": "(self, *, bits=8, least=-12, most=8)", "tell": "(self, line)"}},
 }
 
 

@@ -1,12 +1,13 @@
 """Point 1: what is reckoned is off by no more than is counted for it."""
 
+import math
 import unittest
 from fractions import Fraction
 
 from oncenear.dots import number_of
 from oncenear.kept import Kept
 from oncenear.shares import log_of_twos, turns_taken, twos_and_ratio, twos_taken
-from oncenear.sums import cosine_of, factorial_sum, inverse_sum, odd_sum, power_of_e, sine_of
+from oncenear.sums import cosine_of, factorial_sum, floor_units, inverse_sum, odd_sum, power_of_e, sine_of
 from tests.helpers import worth
 from tests.oracle import log_two_about, pi_about, worth_about
 
@@ -15,19 +16,34 @@ PI, LOG_TWO = Fraction(pi_about(900)), Fraction(log_two_about(900))
 
 
 class Kepts(unittest.TestCase):
-    def test_each_is_off_by_less_than_two(self):
+    def test_each_is_the_greatest_that_is_no_greater(self):
         logs = {i: worth_about("log", number_of(2 ** i + 1, -i)) for i in (1, 2, 3, 9, 40)}
         arcs = {i: worth_about("arc", (1, -i)) for i in (1, 2, 3, 9, 40)}
-        # Deeper ones last, and first: one that is known already is cut.
+        # Deeper ones last, and first: one that is known already is cut, and is the same then.
         for depths in (DEPTHS, DEPTHS[::-1]):
             kept = Kept()
             for depth in depths:
-                unit = Fraction(1, 2 ** depth)
-                self.assertLess(abs(kept.pi_at(depth) * unit - PI), 2 * unit)
-                self.assertLess(abs(kept.log_two_at(depth) * unit - LOG_TWO), 2 * unit)
+                self.assertEqual(kept.pi_at(depth), math.floor(PI * 2 ** depth))
+                self.assertEqual(kept.log_two_at(depth), math.floor(LOG_TWO * 2 ** depth))
                 for i in logs:
-                    self.assertLess(abs(kept.log_step_at(i, depth) * unit - logs[i]), 2 * unit)
-                    self.assertLess(abs(kept.arc_step_at(i, depth) * unit - arcs[i]), 2 * unit)
+                    self.assertEqual(kept.log_step_at(i, depth), math.floor(logs[i] * 2 ** depth))
+                    self.assertEqual(kept.arc_step_at(i, depth), math.floor(arcs[i] * 2 ** depth))
+
+    def test_what_is_known_from_the_first(self):
+        kept = Kept()
+        self.assertEqual((kept.pi_at(0), kept.log_two_at(0), kept.pi_depth, kept.log_two_depth), (3, 0, 0, 0))
+
+    def test_sums_that_leave_open_which_it_is(self):
+        asked = []
+
+        def reckon(depth):
+            """A third, at first with so much that it may be off by that more must be asked."""
+            asked.append(depth)
+            return (1 << depth) // 3, 1 << (depth - 8) if len(asked) < 3 else 1
+
+        self.assertEqual(floor_units(reckon, 10), 341)
+        self.assertEqual(len(asked), 3)
+        self.assertEqual(asked, sorted(set(asked)))
 
 
 class Shares(unittest.TestCase):

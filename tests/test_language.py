@@ -21,7 +21,7 @@ USED_BUILTINS = set(
 BUILTIN_METHODS = set(
     "append clear copy count endswith extend find get index insert isalnum isalpha isdigit islower isspace isupper"
     " items join keys ljust lower lstrip partition pop remove replace reverse rfind rjust rpartition rsplit rstrip"
-    " setdefault split splitlines startswith strip update upper values zfill bit_length".split())
+    " setdefault split splitlines startswith strip update upper values zfill bit_length isascii removeprefix".split())
 SPECIAL_METHODS = set("__init__ __eq__ __repr__ __str__ __len__ __enter__ __exit__ __call__ __iter__".split())
 BARRED_NODES = (ast.Div, ast.Global, ast.AsyncFunctionDef, ast.AsyncFor, ast.AsyncWith, ast.Await, ast.Import)
 
