@@ -38,8 +38,8 @@ def by_line(desk, words):
 
 
 def told_line(desk, words):
-    """Tell a worth."""
-    need_function(words[0])
+    """Tell a worth; the first word is a function's."""
+    need_many(words, 2)
     number = read_number(words[1])
     return number_text(desk.works.told(desk.form, words[0], number, way=desk.way, by=desk.method))
 
@@ -112,7 +112,6 @@ class Desk:
         words = words_of(line)
         first = words[0]
         if first in FUNCTIONS:
-            need_many(words, 2)
             return told_line(self, words)
         if first not in LINES:
             raise NoLine("there is no such line")
